@@ -1,7 +1,7 @@
 """Concepts, books and vocabularies, and the texts of concepts and books."""
 
 from tellalike.errors import BadBook, BadConcept, BadText, BadVocabulary
-from tellalike.forms import is_ascending, is_pair
+from tellalike.forms import ascending, is_ascending, is_pair
 
 LONGEST_WORD = 10
 NO_WORDS = ("all", "none", "some", "and", "each", "is")
@@ -49,11 +49,7 @@ def size(concept):
 def parts(concept):
     """The ascending tuple of the concept and all concepts of which it is built."""
     check_concept(concept)
-    found = []
-    for item in sorted(bottom_up(concept)):
-        if not found or found[-1] != item:
-            found.append(item)
-    return tuple(found)
+    return ascending(bottom_up(concept))
 
 
 def vocabulary_of(concept):

@@ -14,3 +14,12 @@ def is_pair(thing):
 def is_ascending(items):
     """Whether items that can be compared are sorted, and none is there twice."""
     return all([items[k] < items[k + 1] for k in range(len(items) - 1)])
+
+
+def ascending(items):
+    """The ascending tuple of the items, each once."""
+    found = []
+    for item in sorted(items):
+        if not found or found[-1] != item:
+            found.append(item)
+    return tuple(found)

@@ -77,3 +77,20 @@ class Prefixes:
         if any(way == () for start in ways for way in self.spread(start)):
             return None
         return len(text)
+
+
+def variants(thing):
+    """The thing, which is made of tuples, strings and integers, with something otherwise at one place."""
+    if isinstance(thing, tuple):
+        yield from (list(thing), thing + (0,), thing + ((),), (thing,), ())
+        for k, item in enumerate(thing):
+            yield thing[:k] + thing[k + 1:]
+            yield thing[:k + 1] + thing[k:]
+            if k:
+                yield thing[:k - 1] + (item, thing[k - 1]) + thing[k + 1:]
+            for other in variants(item):
+                yield thing[:k] + (other,) + thing[k + 1:]
+    elif isinstance(thing, str):
+        yield from (thing + "x", thing[:-1], thing.upper(), "a", "r", "all", 0, None, (thing,), [thing])
+    else:
+        yield from (thing + 1, thing - 1, -1, 10 ** 39, str(thing), None, (thing,), [thing], thing == 1)

@@ -1,6 +1,7 @@
 """The form of the package's files: sizes, characters, imports, and words that are not used."""
 
 import ast
+import builtins
 import pathlib
 import re
 import unittest
@@ -67,6 +68,68 @@ class FormTest(unittest.TestCase):
                     self.assertNotIsInstance(node.value, (float, complex, bytes), (name, node.lineno))
                 if isinstance(node, ast.Name):
                     self.assertNotIn(node.id, ("type", "id", "hash", "print", "open", "eval", "exec", "filter", "map"), name)
+
+    def test_builtins(self):
+        allowed = set(
+            "len range enumerate zip min max sum abs sorted reversed int str bool bytes list tuple dict set frozenset isinstance ord chr"
+            " repr any all divmod pow Exception ValueError TypeError KeyError IndexError".split()
+        )
+        for name, tree in self.trees.items():
+            for node in ast.walk(tree):
+                if isinstance(node, ast.Name) and hasattr(builtins, node.id):
+                    self.assertIn(node.id, allowed, (name, node.lineno))
+                    self.assertIsInstance(node.ctx, ast.Load, (name, node.lineno))
+                if isinstance(node, ast.arg):
+                    self.assertFalse(hasattr(builtins, node.arg), (name, node.lineno))
+
+    def test_methods_and_attributes(self):
+        builtin = set("append copy count endswith extend find get index insert items join keys partition pop setdefault split startswith strip"
+                      " values bit_length add".split())
+        own, attributes = set(), set()
+        for tree in self.trees.values():
+            for node in ast.walk(tree):
+                if isinstance(node, ast.ClassDef):
+                    own |= {item.name for item in node.body if isinstance(item, ast.FunctionDef)}
+                if isinstance(node, ast.Attribute) and isinstance(node.ctx, ast.Store):
+                    attributes.add(node.attr)
+        self.assertFalse(own & attributes)
+        self.assertFalse((own | attributes) & builtin)
+        for name, tree in self.trees.items():
+            for node in ast.walk(tree):
+                if isinstance(node, ast.Call) and isinstance(node.func, ast.Attribute):
+                    self.assertIn(node.func.attr, own | builtin, (name, node.lineno))
+                elif isinstance(node, ast.Attribute):
+                    self.assertIn(node.attr, attributes | own | builtin, (name, node.lineno))
+
+    def test_is_only_with_none_true_and_false(self):
+        for name, tree in self.trees.items():
+            for node in [node for node in ast.walk(tree) if isinstance(node, ast.Compare)]:
+                for sign, other in zip(node.ops, node.comparators):
+                    if isinstance(sign, (ast.Is, ast.IsNot)):
+                        self.assertIsInstance(other, ast.Constant, (name, node.lineno))
+                        self.assertIn(other.value, (None, True, False), (name, node.lineno))
+
+    def test_sets_are_not_passed_on(self):
+        for name, tree in self.trees.items():
+            above = {child: node for node in ast.walk(tree) for child in ast.iter_child_nodes(node)}
+            for node in ast.walk(tree):
+                made = isinstance(node, ast.Call) and isinstance(node.func, ast.Name) and node.func.id == "set"
+                if made or isinstance(node, (ast.Set, ast.SetComp)):
+                    holder = above[node]
+                    right = isinstance(holder, ast.Assign) or isinstance(holder, ast.Call) and holder.func.id in ("sorted", "len")
+                    self.assertTrue(right, (name, node.lineno))
+
+    def test_words_that_are_not_used(self):
+        words = r"\b(register|mro|elements|open|input|law|type|typing|enum|dataclass|overload)\b"
+        for name, tree in self.trees.items():
+            docstrings = [ast.get_docstring(node, clean=False) or "" for node in ast.walk(tree)
+                          if isinstance(node, (ast.Module, ast.ClassDef, ast.FunctionDef))]
+            text = self.texts[name]
+            for docstring in docstrings:
+                text = text.replace(docstring, "")
+            text = re.sub(r"#.*", "", text)
+            self.assertIsNone(re.search(words, text), name)
+            self.assertNotIn("_wall", self.texts[name])
 
 
 if __name__ == "__main__":

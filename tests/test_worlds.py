@@ -1,10 +1,10 @@
 """tellalike.worlds: what worlds are, what is in concepts there, which books hold, and certificates of models."""
 
 import copy
-import itertools
 import random
 import unittest
 
+from oracles import is_in_by_words, made_concept, made_world
 from samples import A, ALL, B, C, NONE, both, deep, odd_values, some
 from tellalike import worlds
 from tellalike.errors import BadBook, BadConcept, BadText, BadWorld
@@ -17,38 +17,6 @@ WIDE = (
     4, (("a", (0, 1, 3)), ("b", (1, 2)), ("r", (3,))),
     (("r", ((0, 1), (0, 2), (1, 1))), ("s", ((1, 3), (3, 0)))),
 )
-
-
-def is_in_by_words(world, concept, x):
-    """[2.2] word for word, slowly."""
-    many, names, roles = world
-    if concept[0] == "word":
-        return any(name == concept[1] and x in things for name, things in names)
-    if concept[0] == "and":
-        return is_in_by_words(world, concept[1], x) and is_in_by_words(world, concept[2], x)
-    if concept[0] == "some":
-        ties = [tie for role, found in roles for tie in found if role == concept[1]]
-        return any(x == first and is_in_by_words(world, concept[2], second) for first, second in ties)
-    return concept == ALL
-
-
-def made_concept(source, depth):
-    kind = source.randrange(5) if depth > 1 else source.randrange(3)
-    if kind < 2:
-        return ("word", source.choice("abcr"))
-    if kind == 2:
-        return source.choice([ALL, ALL, NONE])
-    if kind == 3:
-        return some(source.choice("rsa"), made_concept(source, depth - 1))
-    return both(made_concept(source, depth - 1), made_concept(source, depth - 1))
-
-
-def made_world(source):
-    many = source.randint(1, 6)
-    ties = list(itertools.product(range(many), repeat=2))
-    names = [(name, tuple(x for x in range(many) if source.random() < 0.5)) for name in "abr"]
-    roles = [(role, tuple(tie for tie in ties if source.random() < 0.3)) for role in "as"]
-    return (many, tuple(row for row in names if row[1]), tuple(row for row in roles if row[1]))
 
 
 class IsWorldTest(unittest.TestCase):
