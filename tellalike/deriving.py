@@ -25,7 +25,7 @@ def reach(growth, root, goal):
 
 def derivation(growth, root, goal):
     """Lines whose last sentence is that of the root and the goal, which is in its set."""
-    needed = _facts_behind(growth, (root, goal))
+    needed = facts_behind(growth, (root, goal))
     writing = Writing(growth)
     for node, number in growth.order:
         if (node, number) in needed:
@@ -105,7 +105,7 @@ def _source(growth, reason):
     return NONE if reason[0] == "none" else reason[1]
 
 
-def _facts_behind(growth, fact):
+def facts_behind(growth, fact):
     """The fact, a pair (kept thing, number), and all that it came from; a dict of True."""
     needed = {fact: True}
     todo = [fact]

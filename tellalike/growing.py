@@ -17,14 +17,15 @@ class Growth:
     Kept things are made only when they are asked for, or when one that has been made is tied to them.
     """
 
-    def __init__(self, book, words):
+    def __init__(self, book, others):
+        """others are concepts that count, with their parts, besides those of the book."""
         self.table = Table()
         self.table.number_of(("all",))
         self.table.number_of(("none",))
         self.axioms = [(self.table.number_of(left), self.table.number_of(right)) for left, right in book]
         self.of_book = len(self.table.shapes)
-        for word in words:
-            self.table.number_of(("word", word))
+        for concept in others:
+            self.table.number_of(concept)
         self.counted = len(self.table.shapes)
         self.sets = {}
         self.ties = {}
@@ -33,6 +34,11 @@ class Growth:
         self._tied_to = {}
         self._axioms_from = _positions([left for left, _ in self.axioms])
         self._ands_with = _ands_by_inner(self.table.shapes)
+
+    def add_axiom(self, left, right):
+        """Adds an axiom about what has these numbers to those of the book; nothing has been kept yet."""
+        self._axioms_from.setdefault(left, []).append(len(self.axioms))
+        self.axioms.append((left, right))
 
     def keep(self, number):
         """Makes the kept thing of the concept with this number, unless it is there, and closes all sets."""
@@ -108,6 +114,14 @@ class Growth:
             self.put(above, whole, ("lift", tie, number))
         if number == NONE:
             self.put(above, NONE, ("void", tie))
+
+
+def grown_for(book, concept):
+    """A growth by the book in which the first kept thing is that of the concept, and its number."""
+    growth = Growth(book, ())
+    root = growth.table.number_of(concept)
+    growth.keep(root)
+    return growth, root
 
 
 def world_of(growth):

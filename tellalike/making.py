@@ -101,21 +101,27 @@ def state_of_concept(maker, concept):
     return found.pop()
 
 
-def costs_of(maker, vocabulary, most):
-    """The costs of all reachable states, a dict; raises TooMany if there are more than most."""
+def cheapest(maker, vocabulary, most):
+    """For each reachable state its cost, and a concept of this size whose state it is; a dict of pairs.
+
+    Raises TooMany if there are more states than most.
+    """
     names, roles = vocabulary
-    best = {maker.of_all(): 1}
+    best = {maker.of_all(): (1, ("all",))}
     for name in names:
-        best[maker.of_name(name)] = 1
+        best.setdefault(maker.of_name(name), (1, ("word", name)))
     settled = {}
     while len(best) <= most and len(settled) < len(best):
         # What is made of a state costs more than this state, so the cheapest one cannot get cheaper.
-        cost, state = min([(best[known], known) for known in best if known not in settled])
-        settled[state] = cost
-        made = [(cost + 1, maker.lifted(state, role)) for role in roles]
-        made.extend([(cost + settled[known], maker.joined(state, known)) for known in settled])
-        for sum_of_costs, known in made:
-            best[known] = min(sum_of_costs, best.get(known, sum_of_costs))
+        cost, state = min([(best[known][0], known) for known in best if known not in settled])
+        settled[state] = best[state]
+        concept = best[state][1]
+        made = [(maker.lifted(state, role), cost + 1, ("some", role, concept)) for role in roles]
+        for known, (more, first) in settled.items():
+            made.append((maker.joined(state, known), cost + more, ("and", first, concept)))
+        for known, total, whole in made:
+            if known not in best or total < best[known][0]:
+                best[known] = (total, whole)
     if len(best) > most:
         raise TooMany(most)
     return settled

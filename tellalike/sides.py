@@ -15,7 +15,7 @@ class Side:
 
     def __init__(self, book, vocabulary):
         names, roles = vocabulary
-        self._growth = Growth(book, names)
+        self._growth = Growth(book, [("word", name) for name in names])
         table = self._growth.table
         # The numbers of the wide concepts in the growth, in the order of the concepts.
         wide = sorted([(table.concepts[k], k) for k in range(self._growth.counted)])

@@ -3,7 +3,7 @@
 from tellalike.concepts import bottom_up, check_book, check_concept, check_vocabulary, is_in
 from tellalike.errors import BadFiller, BadState, NotIn
 from tellalike.forms import ascending
-from tellalike.making import Maker, costs_of, state_of_concept
+from tellalike.making import Maker, cheapest, state_of_concept
 from tellalike.sides import Side, Sides
 
 MOST_STATES = 40
@@ -59,8 +59,8 @@ def rounds(one, other, vocabulary):
 def states_of(one, other, vocabulary):
     """The ascending tuple of the pairs (state, cost) of all reachable states for the greatest pairs."""
     maker = _maker(one, other, vocabulary)
-    costs = costs_of(maker, vocabulary, MOST_STATES)
-    return tuple(sorted([(maker.listed(state), cost) for state, cost in costs.items()]))
+    found = cheapest(maker, vocabulary, MOST_STATES)
+    return tuple(sorted([(maker.listed(state), cost) for state, (cost, _) in found.items()]))
 
 
 def is_good(one, other, vocabulary, state):

@@ -7,8 +7,9 @@ class Table:
     """Concepts under numbers from 0 on, in the order in which they come, inner ones before outer ones.
 
     shapes has, under its number, what a concept is: ("all",), ("none",), ("word", name), ("and", c, d) or
-    ("some", role, c), with numbers in the place of the inner concepts. Concepts that are joined with themselves
-    again and again are far greater than what is kept of them here, and are equal exactly if their numbers are.
+    ("some", role, c), with numbers in the place of the inner concepts; or ("own", label) for what is no concept.
+    Concepts that are joined with themselves again and again are far greater than what is kept of them here, and are
+    equal exactly if their numbers are.
     """
 
     def __init__(self):
@@ -38,6 +39,10 @@ class Table:
     def number_of_some(self, role, inner):
         """The number of the "some" with the role and the concept with this number."""
         return self._enter(("some", role, inner), ("some", role, self.concepts[inner]), 1 + self.sizes[inner])
+
+    def number_of_own(self, label):
+        """The number of what is no concept, but can stand in the place of a name; the label is its own."""
+        return self._enter(("own", label), ("own", label), 1)
 
     def known_some(self, role, inner):
         """The number of this "some", None if it has none yet."""

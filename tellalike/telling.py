@@ -3,7 +3,7 @@
 from tellalike.concepts import check_book, check_concept
 from tellalike.deriving import derivation, reach
 from tellalike.forms import is_integer
-from tellalike.growing import Growth, world_of
+from tellalike.growing import grown_for, world_of
 from tellalike.lines import lines_hold
 from tellalike.worlds import is_world, judge_model, things_in
 
@@ -12,7 +12,7 @@ def type_of(book, concept):
     """The ascending tuple of the concepts of the book that it tells of the concept."""
     check_book(book)
     check_concept(concept)
-    growth, root = _grown(book, concept)
+    growth, root = grown_for(book, concept)
     return tuple(sorted([growth.table.concepts[k] for k in growth.sets[root] if k < growth.of_book]))
 
 
@@ -21,7 +21,7 @@ def does_tell(book, left, right):
     check_book(book)
     check_concept(left)
     check_concept(right)
-    growth, root = _grown(book, left)
+    growth, root = grown_for(book, left)
     return reach(growth, root, growth.table.number_of(right))
 
 
@@ -30,7 +30,7 @@ def judge_told(book, left, right):
     check_book(book)
     check_concept(left)
     check_concept(right)
-    growth, root = _grown(book, left)
+    growth, root = grown_for(book, left)
     goal = growth.table.number_of(right)
     if reach(growth, root, goal):
         return ("told", derivation(growth, root, goal))
@@ -49,14 +49,6 @@ def told_holds(book, left, right, thing):
     if len(thing) == 3 and thing[0] == "world":
         return _is_counter_world(book, left, right, thing[1], thing[2])
     return False
-
-
-def _grown(book, concept):
-    """A growth by the book in which the first kept thing is that of the concept, and its number."""
-    growth = Growth(book, ())
-    root = growth.table.number_of(concept)
-    growth.keep(root)
-    return growth, root
 
 
 def _is_counter_world(book, left, right, world, x):

@@ -1,5 +1,6 @@
 """What several tests share: names for concepts, values of all kinds, and a reader of prefixes."""
 
+from tellalike.desks import Desk
 from tellalike.errors import BadConcept, NothingToUndo
 
 A, B, C = ("word", "a"), ("word", "b"), ("word", "c")
@@ -29,7 +30,7 @@ def odd_values():
         None, True, False, 0, 1, -1, 10 ** 39, "", "all", "a", "word", "A", "a\n", "\n", [], {}, [[]], {"all": 1},
         {1: ("all",)}, ["all"], ["word", "a"], [["all"], ["all"]], ("all", "all"), (None,), ((),), (0,), (True,),
         ("word",), ("word", 1), ("word", ("a",)), ("word", "all"), ("word", ["a"]), (["all"],), ({},),
-        ([], []), ((), []), BadConcept(1), NothingToUndo(), BadConcept, (BadConcept(1), BadConcept(2)),
+        ([], []), ((), []), BadConcept(1), NothingToUndo(), BadConcept, (BadConcept(1), BadConcept(2)), Desk(()), (Desk(()),),
     ]
 
 
