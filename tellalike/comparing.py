@@ -99,7 +99,11 @@ def _is_closed(maker, vocabulary, states):
             added[maker.lifted(state, role)] = True
     if maker.of_all() not in known:
         return False
-    return all([maker.joined(state, more) in known for state in states for more in added])
+    for more in added:
+        for state in states:
+            if maker.joined(state, more) not in known:
+                return False
+    return True
 
 
 def _is_lean_right(one, left, right):

@@ -8,9 +8,7 @@ from tellalike.following import DEEPEST, Layers, is_told_of, least_world
 from tellalike.forms import ascending, is_integer, is_pair
 from tellalike.lines import lines_hold
 from tellalike.telling import judge_told
-from tellalike.views import (
-    are_facts, check_data, check_thing, concept_of_view, is_view_in, things_in_data, whole_view
-)
+from tellalike.views import are_facts, check_data, check_thing, concept_of_view, is_view_in, things_in_data, whole_view
 from tellalike.worlds import check_world, is_world, judge_model, things_in
 
 LETTERS = "abcdefghijklmnopqrstuvwxyz"

@@ -1,6 +1,6 @@
 """A desk: a book on which deeds are done, undone and redone, with marks of what it was."""
 
-from tellalike.concepts import book_text, check_book, check_concept, check_vocabulary, is_book, is_word, read_book
+from tellalike.concepts import book_text, check_book, is_book, is_word, read_book
 from tellalike.covering import judge_cover
 from tellalike.errors import BadDeed, BadText, BadWord, NothingToRedo, NothingToUndo
 from tellalike.forms import is_integer
@@ -72,8 +72,6 @@ class Desk:
 
     def tells(self, left, right):
         """Whether the book tells that each left is a right."""
-        check_concept(left)
-        check_concept(right)
         return does_tell(self._book, left, right)
 
     def since(self, word, vocabulary):
@@ -81,7 +79,6 @@ class Desk:
         marked = _book_at(self._marks, word)
         if marked is None:
             raise BadWord(word)
-        check_vocabulary(vocabulary)
         return (judge_cover(marked, self._book, vocabulary), judge_cover(self._book, marked, vocabulary))
 
 

@@ -1,7 +1,7 @@
 """Editions of a book: which vocabularies see what has changed between them."""
 
 from tellalike.comparing import sentence_holds, table_holds
-from tellalike.concepts import check_book, check_vocabulary, is_book, is_vocabulary
+from tellalike.concepts import check_book, check_vocabulary, is_book
 from tellalike.covering import are_alike, judge_cover
 from tellalike.errors import BadEditions
 from tellalike.forms import is_ascending
@@ -86,7 +86,7 @@ def _choices(words):
     """All tuples of some of the words, in their order."""
     found = [()]
     for word in words:
-        found.extend([chosen + (word,) for chosen in found])
+        found = found + [chosen + (word,) for chosen in found]
     return found
 
 
@@ -118,7 +118,7 @@ def _are_rows(thing, many, whole):
     if not isinstance(thing, tuple):
         return False
     for row in thing:
-        if not isinstance(row, tuple) or len(row) != many or not is_vocabulary(row[0]) or row[0] not in whole:
+        if not isinstance(row, tuple) or len(row) != many or row[0] not in whole:
             return False
     few = [row[0] for row in thing]
     return is_ascending(few) and not [one for one in few for other in few if one != other and _contains(one, other)]

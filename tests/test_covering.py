@@ -416,6 +416,10 @@ class SentencesOfOthersTest(unittest.TestCase):
         for words, wanted in (((("a", "c"), ()), True), ((("a",), ()), False), ((("c",), ("r",)), False), (EMPTY, False)):
             thing = ("sentence", A, C, (("axiom", 0), ("axiom", 1), ("chain", 0, 1)), (1, (("a", (0,)),), ()), 0)
             self.assertIs(self.holds(*thing, words=words), wanted)
+        # In these words the books are parted, too, but not by this sentence.
+        for words in ((("a",), ("r",)), (("b", "c"), ("r",))):
+            self.assertIs(does_cover((), OTHER, words), False)
+            self.assertIs(self.holds("sentence", A, C, (("axiom", 0), ("axiom", 1), ("chain", 0, 1)), (1, (("a", (0,)),), ()), 0, words=words), False)
         thing = ("sentence", A, some("r", ALL), (("axiom", 0), ("all", B), ("lift", "r", 1), ("chain", 0, 2)), (1, (("a", (0,)),), ()), 0)
         for words, wanted in (((("a",), ("r",)), True), ((("a",), ("s",)), False), ((("a", "r"), ()), False)):
             self.assertIs(self.holds(*thing, words=words), wanted)

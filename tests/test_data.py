@@ -381,6 +381,8 @@ class AllDataTest(unittest.TestCase):
         self.assertIs(data_holds((), book, (("a", "b", "c"), ()), thing), True)
         self.assertIs(data_holds((), book, (("a", "b"), ()), thing), False)
         self.assertIs(data_holds((), book, (("a", "b", "c"), ()), thing[:4] + (("told",) + clash[1:],) + thing[5:]), False)
+        for x in ("z", "w", None, ["y"], 0):
+            self.assertIs(data_holds((), book, (("a", "b", "c"), ()), thing[:2] + (x,) + thing[3:]), False)
         found = judge_data((), book, (("a", "b"), ()))
         self.assertEqual((found[0], found[3]), ("data", NONE))
 
@@ -417,7 +419,8 @@ class AllDataTest(unittest.TestCase):
 
     def test_other_values(self):
         table = judge_data(self.BOOK, self.BOOK, self.WORDS)
-        for thing in odd_values() + [(), ("data",), ("covered",), table[:2], table + (0,), list(table), judge_cover((), self.BOOK, self.WORDS)]:
+        for thing in odd_values() + [(), ("data",), ("covered",), table[:2], table + (0,), list(table), ("covers",) + table[1:], ("data",) + table[1:], (None,) + table[1:],
+                                     judge_cover((), self.BOOK, self.WORDS)]:
             self.assertIs(data_holds((), self.BOOK, self.WORDS, thing), False, thing)
             self.assertIs(data_holds(self.BOOK, self.BOOK, self.WORDS, thing), False, thing)
             for more in (("data", thing, "x", C, (), ()), ("data", (), thing, C, (), ()), self.data(facts=thing), self.data(thing=thing), self.data(d=thing),

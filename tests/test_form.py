@@ -119,6 +119,67 @@ class FormTest(unittest.TestCase):
                     right = isinstance(holder, ast.Assign) or isinstance(holder, ast.Call) and holder.func.id in ("sorted", "len")
                     self.assertTrue(right, (name, node.lineno))
 
+    def test_no_generators_and_no_sorting_in_place(self):
+        """The package has a class with __eq__, so any, all, sorted and the like take lists."""
+        for name, tree in self.trees.items():
+            for node in ast.walk(tree):
+                self.assertNotIsInstance(node, (ast.GeneratorExp, ast.Yield, ast.YieldFrom, ast.Global, ast.Lambda), (name, getattr(node, "lineno", 0)))
+                if isinstance(node, ast.Attribute):
+                    self.assertNotEqual(node.attr, "sort", (name, node.lineno))
+
+    def test_no_per_cent_and_no_other_escapes(self):
+        for name, tree in self.trees.items():
+            for node in ast.walk(tree):
+                self.assertNotIsInstance(node, (ast.Mod, ast.Pow), name)
+                if isinstance(node, ast.Constant) and isinstance(node.value, str):
+                    self.assertNotIn("%", node.value, (name, node.lineno))
+
+    def test_each_name_is_bound_once_and_hides_nothing(self):
+        for name, tree in self.trees.items():
+            above = [alias.name for node in tree.body if isinstance(node, ast.ImportFrom) for alias in node.names]
+            classes = [node.name for node in tree.body if isinstance(node, ast.ClassDef)]
+            functions = [node.name for node in tree.body if isinstance(node, ast.FunctionDef)]
+            values = [node.targets[0].id for node in tree.body if isinstance(node, ast.Assign)]
+            bound = above + classes + functions + values
+            self.assertEqual(len(bound), len(set(bound)), name)
+            hidden = set(above) | set(classes) | set(dir(builtins))
+            for node in ast.walk(tree):
+                if isinstance(node, ast.arg):
+                    self.assertNotIn(node.arg, hidden, (name, node.lineno))
+                if isinstance(node, ast.Name) and isinstance(node.ctx, ast.Store):
+                    self.assertNotIn(node.id, hidden, (name, node.lineno))
+
+    def test_names(self):
+        for name, tree in self.trees.items():
+            self.assertRegex(name, r"^(__init__|[a-z][a-z_]*)$")
+            for node in ast.walk(tree):
+                names = [node.id] if isinstance(node, ast.Name) else [node.attr] if isinstance(node, ast.Attribute) else []
+                for each in names:
+                    self.assertRegex(each, r"^(_?[A-Za-z][A-Za-z0-9_]*|_|__init__)$", (name, node.lineno))
+                if isinstance(node, ast.Name) and isinstance(node.ctx, ast.Load):
+                    self.assertNotEqual(node.id, "_", (name, node.lineno))
+
+    def test_module_level(self):
+        for name, tree in self.trees.items():
+            for k, node in enumerate(tree.body):
+                if isinstance(node, ast.Expr):
+                    self.assertEqual((k, isinstance(node.value, ast.Constant)), (0, True), name)
+                else:
+                    self.assertIsInstance(node, (ast.ImportFrom, ast.FunctionDef, ast.ClassDef, ast.Assign), name)
+                if isinstance(node, (ast.FunctionDef, ast.ClassDef)):
+                    self.assertEqual(node.decorator_list, [], name)
+
+    def test_what_a_loop_goes_over_is_not_changed_in_it(self):
+        changing = ("append", "extend", "insert", "pop", "remove", "clear", "update", "setdefault", "add", "discard", "reverse")
+        for name, tree in self.trees.items():
+            for loop in [node for node in ast.walk(tree) if isinstance(node, ast.For)]:
+                over = {ast.unparse(node) for node in ast.walk(loop.iter) if isinstance(node, (ast.Name, ast.Attribute))}
+                for node in [node for line in loop.body for node in ast.walk(line)]:
+                    if isinstance(node, ast.Call) and isinstance(node.func, ast.Attribute) and node.func.attr in changing:
+                        self.assertNotIn(ast.unparse(node.func.value), over, (name, node.lineno))
+                    if isinstance(node, ast.Subscript) and isinstance(node.ctx, (ast.Store, ast.Del)):
+                        self.assertNotIn(ast.unparse(node.value), over, (name, node.lineno))
+
     def test_words_that_are_not_used(self):
         words = r"\b(register|mro|elements|open|input|law|type|typing|enum|dataclass|overload)\b"
         for name, tree in self.trees.items():

@@ -212,7 +212,7 @@ class CertificatesOfOthersTest(unittest.TestCase):
                       ("covered", (), ()), list(wider)):
             self.assertIs(self.holds(1, (kind, axioms, reasons, wrong), book=self.TWO), False)
         for wrong in ((kind, axioms, (), sentence), (kind, axioms, reasons * 2, sentence), (kind, axioms, ((),), sentence), (kind, axioms, reasons), [kind, axioms, reasons, sentence],
-                      (kind, axioms, reasons, sentence, ()), ("whole", axioms, reasons, sentence), (kind, axioms, told_lines(self.TWO, (B, A)), sentence)):
+                      (kind, axioms, reasons, sentence, ()), (kind, axioms, reasons, sentence, (), ()), ("whole", axioms, reasons, sentence), (kind, axioms, told_lines(self.TWO, (B, A)), sentence)):
             self.assertIs(self.holds(1, wrong, book=self.TWO), False)
         self.assertEqual(faults_of_sentence(axioms, self.TWO, AB, sentence, [ALL]), [])
 

@@ -9,7 +9,7 @@ from oracles import concept_of_size, made_book
 from samples import A, ALL, B, C, NONE, both, odd_values, some, variants
 from tellalike.concepts import read_book, read_concept
 from tellalike.data import does_tell_of, is_view, judge_thing, thing_holds, things_of, view_concept
-from tellalike.errors import TooMany
+from tellalike.errors import BadConcept, TooMany
 from tellalike.lines import lines_hold
 from tellalike.telling import judge_told
 from tellalike.worlds import is_world
@@ -209,6 +209,10 @@ class CertificatesOfOthersTest(unittest.TestCase):
         self.assertIs(self.holds("y", C, ("clash", ("y", ("a", "b"), ()), (("axiom", 0),)), book, data), False)
         self.assertIs(self.holds("y", C, ("clash", ("z", (), ()), (("axiom", 0),)), book, data), False)
         self.assertIs(self.holds("x", C, clash, book, data[1:]), False)
+        self.assertIs(self.holds("x", C, ("clashes",) + clash[1:], book, data), False)
+        nothing = ((ALL, NONE),)
+        for z, wanted in (("x", True), ("y", True), ("z", False)):
+            self.assertIs(self.holds("x", C, ("clash", (z, (), ()), (("axiom", 0),)), nothing, data), wanted)
 
     def test_worlds_of_others(self):
         one_for_all = ("world", (1, (("a", (0,)), ("b", (0,)), ("c", (0,))), (("r", ((0, 0),)),)), (("x", 0), ("y", 0)))
@@ -259,6 +263,17 @@ class CertificatesOfOthersTest(unittest.TestCase):
         self.assertIs(thing_holds((), ring, "x", A, ("told", ("x", ("a",), view[2]), lines)), True)
         with self.assertRaises(TooMany):
             thing_holds((), ring, "x", concept, ("told", view, (("same", concept),)))
+
+
+class WrongArgumentsTest(unittest.TestCase):
+
+    def test_concepts_are_looked_at_also_where_all_is_told(self):
+        book, data = ((ALL, NONE),), (("there", "x"),)
+        for function, rest in ((judge_thing, ()), (does_tell_of, ()), (thing_holds, (None,))):
+            for concept in odd_values():
+                with self.assertRaises(BadConcept) as caught:
+                    function(book, data, "x", concept, *rest)
+                self.assertIs(caught.exception.thing, concept)
 
 
 class LimitsTest(unittest.TestCase):
