@@ -55,25 +55,27 @@ class Comparison:
             right = Look(world_of(far), world, self._vocabulary).parting(0, 0)
         return ("sentence", self.left, right, judge_told(other, self.left, right)[1], world, 0)
 
+    def is_sentence(self, thing):
+        """Whether thing is a certificate "sentence" of [7.2]."""
+        if not _has_six(thing) or self.left is None:
+            return False
+        _, left, right, lines, world, x = thing
+        if not self._is_known(left) or not self._is_known(right) or size(left) > self.cost:
+            return False
+        one, other = self._books
+        if not told_holds(other, left, right, ("told", lines)):
+            return False
+        # What is weaker than right is told by other, too, so it must be true at the root of the least world of one.
+        return told_holds(one, left, right, ("world", world, x)) and _is_lean_right(one, left, right)
+
+    def _is_known(self, thing):
+        """Whether thing is a concept in the vocabulary."""
+        return is_concept(thing) and is_in(thing, self._vocabulary)
+
 
 def sentence_holds(one, other, vocabulary, thing):
-    """Whether thing is a certificate "sentence" of [7.2]; raises TooMany as a Comparison does."""
-    if not isinstance(thing, tuple) or len(thing) != 6 or thing[0] != "sentence":
-        return False
-    return is_parting(Comparison(one, other, vocabulary), one, other, vocabulary, thing)
-
-
-def is_parting(comparison, one, other, vocabulary, thing):
-    """Whether a tuple of six values is a certificate "sentence", by the comparison of the two books."""
-    _, left, right, lines, world, x = thing
-    if not is_concept(left) or not is_concept(right) or not is_in(left, vocabulary) or not is_in(right, vocabulary):
-        return False
-    if comparison.left is None or size(left) > comparison.cost:
-        return False
-    if not told_holds(other, left, right, ("told", lines)):
-        return False
-    # What is weaker than right is told by other, too, so it must be true at the root of the least world of one.
-    return told_holds(one, left, right, ("world", world, x)) and _is_lean_right(one, left, right)
+    """Whether thing is a certificate "sentence" of [7.2]; what has not its form is none without a Comparison."""
+    return _has_six(thing) and Comparison(one, other, vocabulary).is_sentence(thing)
 
 
 def table_holds(one, other, vocabulary, pairs, states):
@@ -87,6 +89,11 @@ def table_holds(one, other, vocabulary, pairs, states):
     if None in read or not is_ascending(states) or not all([maker.is_good(state) for state in read]):
         return False
     return _is_closed(maker, vocabulary, read)
+
+
+def _has_six(thing):
+    """Whether thing is a tuple of six values that begins as a certificate "sentence"."""
+    return isinstance(thing, tuple) and len(thing) == 6 and thing[0] == "sentence"
 
 
 def _is_closed(maker, vocabulary, states):

@@ -1,6 +1,6 @@
 """Whether one book tells all that another one tells in the words of a vocabulary, with tables and sentences."""
 
-from tellalike.comparing import Comparison, is_parting, table_holds
+from tellalike.comparing import Comparison, table_holds
 from tellalike.concepts import check_book, check_vocabulary
 
 
@@ -24,13 +24,9 @@ def judge_cover(one, other, vocabulary):
 def cover_holds(one, other, vocabulary, thing):
     """Whether thing is a certificate for the two books and the vocabulary."""
     comparison = _compared(one, other, vocabulary)
-    if not isinstance(thing, tuple):
-        return False
-    if len(thing) == 3 and thing[0] == "covered":
+    if isinstance(thing, tuple) and len(thing) == 3 and thing[0] == "covered":
         return table_holds(one, other, vocabulary, thing[1], thing[2])
-    if len(thing) == 6 and thing[0] == "sentence":
-        return is_parting(comparison, one, other, vocabulary, thing)
-    return False
+    return comparison.is_sentence(thing)
 
 
 def _compared(one, other, vocabulary):
